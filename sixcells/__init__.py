@@ -1,0 +1,1 @@
+"""Sixcells: a floor of cells with six sides each."""
