@@ -2,6 +2,7 @@
 
 from sixcells.errors import NoWay
 
+MIDDLE = (0, 0)
 WAYS = ((1, 0), (0, 1), (-1, 1), (-1, 0), (0, -1), (1, -1))
 
 
@@ -9,6 +10,11 @@ def is_whole(thing):
     """Whether a thing is a whole number."""
     # Python counts True and False as ints; here they are none.
     return isinstance(thing, int) and not isinstance(thing, bool)
+
+
+def is_count(thing):
+    """Whether a thing is a whole number from 0 on."""
+    return is_whole(thing) and thing >= 0
 
 
 def is_cell(thing):

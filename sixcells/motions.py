@@ -4,9 +4,8 @@ Every motion is told by its form (flip, times, to): a mirror where flip is
 True, then a turn done times times, then a shift by to.
 """
 
-from sixcells.cells import plus
+from sixcells.cells import MIDDLE, plus
 
-MIDDLE = (0, 0)
 PLAIN = (False, 0, (0, 0))
 
 
